@@ -1,0 +1,1 @@
+"""Floatforge: numbers kept as words of bits."""
