@@ -52,6 +52,11 @@ def none_of(width):
     return joined(width, 0, all_ones(width[0]), highest_of_fraction(width))
 
 
+def endless_of(width):
+    check_width(width)
+    return joined(width, 0, all_ones(width[0]), 0)
+
+
 def highest_of_fraction(width):
     return 1 << (width[1] - 1)
 
@@ -73,6 +78,11 @@ def unsigned(width, word):
 def signed(width, word, other):
     check_word(width, other)
     return unsigned(width, word) + (other & sign_bit(width))
+
+
+def with_sign(width, word, below):
+    # For a word with sign 0, which is what is reckoned of a size.
+    return turned(width, word) if below else word
 
 
 def bits_of(width, word):

@@ -1,4 +1,4 @@
-"""What the tests share: widths and wrong things to try, and how a refusal is looked at."""
+"""What the tests share: widths and wrong things to try, answers reckoned another way, how a refusal is looked at."""
 
 import unittest
 from fractions import Fraction
@@ -20,6 +20,13 @@ NOT_WIDTHS = (
     (1, 10), (0, 10), (-5, 10), (12, 10), (10 ** 1999, 10), (5, 0), (5, -10), (5, 61), (5, 10 ** 1999), (1, 0), (12, 61),
     (True, 10), (5, True), (False, 10), (5, False), (None, 10), (5, None), ("5", 10), (5, "10"), ([5], 10), (5, [10]),
     ((5,), 10), (5, (10,)), (5.0, 10), (5, 10.0), (None, None), ((5, 10), (5, 10)),
+)
+
+WAYS = ("even", "away", "in", "up", "down")
+NOT_WAYS = (
+    None, True, False, 0, 1, -1, "", " ", "Even", "EVEN", "even ", " even", "even\n", "evenly", "inward", "upward", "eve",
+    "even away", "near", "clean", [], ["even"], (), ("even",), ("up", "down"), {}, {"even": 1}, {"in"}, b"even", 1.0,
+    object(),
 )
 
 
@@ -74,6 +81,34 @@ def fraction_of(number):
     """An exact number as a Fraction."""
     n, k = number
     return Fraction(n * 2 ** k) if k >= 0 else Fraction(n, 2 ** -k)
+
+
+def value_by_promise(width, word):
+    """The value as it is told of small and plain words, as a Fraction."""
+    sign, exponent, fraction = parts_by_division(width, word)
+    e, f = width
+    bias = 2 ** (e - 1) - 1
+    if exponent == 0:
+        size = Fraction(fraction) * Fraction(2) ** (1 - bias - f)
+    else:
+        size = (1 + Fraction(fraction, 2 ** f)) * Fraction(2) ** (exponent - bias)
+    return -size if sign else size
+
+
+def is_number(width, word):
+    return kind_by_parts(width, word) in ("nought", "small", "plain")
+
+
+def is_loud(width, word):
+    return kind_by_parts(width, word) == "loud"
+
+
+def is_none(width, word):
+    return kind_by_parts(width, word) in ("still", "loud")
+
+
+def numbers_of(width):
+    return [word for word in words_to_try(width) if is_number(width, word)]
 
 
 def shown(value):

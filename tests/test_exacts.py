@@ -8,7 +8,7 @@ from floatforge.exacts import added, exact, fitting, is_below, multiplied, value
 from floatforge.widths import width_of
 from floatforge.words import cut
 from tests.helpers import (
-    NARROW, WIDTHS, PromiseTest, fraction_of, kind_by_parts, not_words, parts_by_division, shown, words_to_try,
+    NARROW, WIDTHS, PromiseTest, fraction_of, kind_by_parts, not_words, numbers_of, shown, value_by_promise, words_to_try,
 )
 
 HALF = width_of(5, 10)
@@ -24,22 +24,6 @@ SHIFTED = 2 ** 6643
 SMALL_NUMBERS = [exact(n, k) for n in range(-9, 10) for k in range(-4, 5)]
 GREAT_NUMBERS = [exact(n, k) for n in (GREAT, -GREAT, SHIFTED, -SHIFTED, GREAT - 1, 1, -1, 0, 3, -3)
                  for k in (-9000, -8999, 0, 1, 8999, 9000)]
-
-
-def value_by_promise(width, word):
-    """The value as it is told of small and plain words, as a Fraction."""
-    sign, exponent, fraction = parts_by_division(width, word)
-    e, f = width
-    bias = 2 ** (e - 1) - 1
-    if exponent == 0:
-        size = Fraction(fraction) * Fraction(2) ** (1 - bias - f)
-    else:
-        size = (1 + Fraction(fraction, 2 ** f)) * Fraction(2) ** (exponent - bias)
-    return -size if sign else size
-
-
-def numbers_of(width):
-    return [word for word in words_to_try(width) if kind_by_parts(width, word) in ("nought", "small", "plain")]
 
 
 class Made(PromiseTest):

@@ -46,6 +46,18 @@ def defined_names(tree):
     return names
 
 
+def bound_within(function):
+    """The names that a function binds: its parameters and its locals."""
+    names = [node.arg for node in ast.walk(function) if isinstance(node, ast.arg)]
+    return names + [node.id for node in ast.walk(function) if isinstance(node, ast.Name) and isinstance(node.ctx, ast.Store)]
+
+
+def own_values(tree):
+    """The names of the values that the objects of a file's classes are given."""
+    stored = [node for node in ast.walk(tree) if isinstance(node, ast.Attribute) and isinstance(node.ctx, ast.Store)]
+    return {node.attr for node in stored}
+
+
 class Language(unittest.TestCase):
     def setUp(self):
         self.texts = {path: path.read_text(encoding="utf-8") for path in package_files()}
@@ -121,6 +133,44 @@ class Language(unittest.TestCase):
                 self.assertFalse(hasattr(builtins, node.arg), place)
             if isinstance(node, (ast.FunctionDef, ast.ClassDef)):
                 self.assertTrue(node.name in DUNDERS or node.name[0] != "_", place)
+
+    def test_each_name_at_the_top_is_bound_once(self):
+        for path, tree in self.trees.items():
+            drawn = [alias.name for node in tree.body if isinstance(node, ast.ImportFrom) for alias in node.names]
+            names = defined_names(tree) + drawn
+            self.assertEqual(len(names), len(set(names)), path.name)
+
+    def test_no_local_is_called_like_a_class_or_an_import(self):
+        for path, tree in self.trees.items():
+            drawn = {alias.name for node in tree.body if isinstance(node, ast.ImportFrom) for alias in node.names}
+            classes = {node.name for node in tree.body if isinstance(node, ast.ClassDef)}
+            for node in ast.walk(tree):
+                if isinstance(node, (ast.FunctionDef, ast.Lambda)):
+                    self.assertEqual(set(bound_within(node)) & (drawn | classes), set(), f"{path.name}:{node.lineno}")
+
+    def test_no_name_is_a_method_and_a_value(self):
+        methods = {node.name for place, each in self.each_node() if isinstance(each, ast.ClassDef)
+                   for node in each.body if isinstance(node, ast.FunctionDef)}
+        for path, tree in self.trees.items():
+            self.assertEqual(own_values(tree) & methods, set(), path.name)
+
+    def test_small_forms(self):
+        for place, node in self.each_node():
+            if isinstance(node, ast.Compare) and any(isinstance(op, (ast.Is, ast.IsNot)) for op in node.ops):
+                beside = [node.left] + node.comparators
+                self.assertTrue(any(isinstance(one, ast.Constant) and one.value in (None, True, False) for one in beside), place)
+            if isinstance(node, ast.Constant) and isinstance(node.value, str):
+                self.assertNotIn("%", node.value, place)
+            if isinstance(node, ast.Assign):
+                self.assertIsInstance(node.targets[0], (ast.Name, ast.Attribute, ast.Subscript), place)
+            if isinstance(node, ast.FunctionDef):
+                self.assertIsNone(node.returns, place)
+            if isinstance(node, ast.arg):
+                self.assertIsNone(node.annotation, place)
+            if isinstance(node, ast.FormattedValue):
+                self.assertIsInstance(node.value, ast.Name, place)
+            if isinstance(node, ast.keyword):
+                self.assertIn(node.arg, ("key", "reverse", "default", "start", "strict"), place)
 
     def test_methods(self):
         own = {node.name for place, node in self.each_node() if isinstance(node, ast.FunctionDef)}
