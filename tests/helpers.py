@@ -1,5 +1,6 @@
 """What the tests share: widths and wrong things to try, answers reckoned another way, how a refusal is looked at."""
 
+import functools
 import unittest
 from fractions import Fraction
 
@@ -83,6 +84,7 @@ def fraction_of(number):
     return Fraction(n * 2 ** k) if k >= 0 else Fraction(n, 2 ** -k)
 
 
+@functools.lru_cache(maxsize=100000)
 def value_by_promise(width, word):
     """The value as it is told of small and plain words, as a Fraction."""
     sign, exponent, fraction = parts_by_division(width, word)
@@ -111,6 +113,108 @@ def numbers_of(width):
     return [word for word in words_to_try(width) if is_number(width, word)]
 
 
+def sign_of(width):
+    """The sign's bit, which is the nought with sign 1 as well."""
+    return 2 ** (width[0] + width[1])
+
+
+def endless_in(width):
+    return (2 ** width[0] - 1) * 2 ** width[1]
+
+
+def none_in(width):
+    return endless_in(width) + 2 ** (width[1] - 1)
+
+
+def standing(size):
+    """How a size stands to a Fraction: -1, 0 or 1."""
+    return lambda other: (size > other) - (size < other)
+
+
+def greatest_not_above(width, stands):
+    """The greatest number with sign 0 whose value is not above a size, found by halving."""
+    low, high = 0, endless_in(width)
+    while high - low > 1:
+        middle = (low + high) // 2
+        if stands(value_by_promise(width, middle)) >= 0:
+            low = middle
+        else:
+            high = middle
+    return low
+
+
+def takes_upper(way, odd, against_middle, below):
+    """Whether of the two words round an amount the one farther from nought is the answer."""
+    if way in ("up", "down"):
+        return below == (way == "down")
+    if way == "in":
+        return False
+    return against_middle > 0 or (against_middle == 0 and (way == "away" or odd))
+
+
+def size_taken(width, stands, below, way):
+    """The answer for a size that is no nought, sought among the words round it."""
+    bias = 2 ** (width[0] - 1) - 1
+    beyond = Fraction(2) ** (bias + 1)
+    sign = sign_of(width) if below else 0
+    lower = greatest_not_above(width, stands)
+    value = value_by_promise(width, lower)
+    if stands(value) == 0:
+        return lower + sign, 0
+    if stands(beyond) >= 0:
+        endless = way in ("even", "away") or (way == "down" if below else way == "up")
+        return endless_in(width) - (0 if endless else 1) + sign, 20
+    upper = beyond if lower + 1 == endless_in(width) else value_by_promise(width, lower + 1)
+    word = lower + 1 if takes_upper(way, lower % 2 == 1, stands((value + upper) / 2), below) else lower
+    if word == endless_in(width):
+        return word + sign, 20
+    return word + sign, 24 if stands(Fraction(2) ** (1 - bias)) < 0 else 16
+
+
+def taken_by_promise(width, number, way):
+    """What a Fraction is taken to, with its marks."""
+    if number == 0:
+        return 0, 0
+    return size_taken(width, standing(abs(number)), number < 0, way)
+
+
+def thing_of(width, word):
+    """A word as what sums are reckoned of: its kind, its sign's bit and its value."""
+    kind = kind_by_parts(width, word)
+    sign = word // sign_of(width)
+    return kind if kind in ("still", "loud", "endless") else "number", sign, (
+        value_by_promise(width, word) if is_number(width, word) else None)
+
+
+def sum_of_things(width, things, way):
+    """The answer for a sum, reckoned with Fractions."""
+    kinds = {kind for kind, sign, value in things}
+    ends = {sign for kind, sign, value in things if kind == "endless"}
+    if "loud" in kinds or (len(ends) == 2 and "still" not in kinds):
+        return none_in(width), 1
+    if "still" in kinds:
+        return none_in(width), 0
+    if ends:
+        return endless_in(width) + ends.pop() * sign_of(width), 0
+    exact = sum((value for kind, sign, value in things), Fraction(0))
+    if exact != 0:
+        return taken_by_promise(width, exact, way)
+    signs = {sign for kind, sign, value in things}
+    if all(value == 0 for kind, sign, value in things) and len(signs) < 2:
+        return sum(signs) * sign_of(width), 0
+    return sign_of(width) if way == "down" else 0, 0
+
+
+def product_of_things(one, other):
+    kinds = {one[0], other[0]}
+    if "loud" in kinds or ("endless" in kinds and 0 in (one[2], other[2])):
+        return ("loud", 0, None)
+    if "still" in kinds:
+        return ("still", 0, None)
+    sign = one[1] ^ other[1]
+    return ("endless", sign, None) if "endless" in kinds else ("number", sign, one[2] * other[2])
+
+
 def shown(value):
     """A short text of whatever is tried."""
     try:
@@ -135,6 +239,12 @@ class PromiseTest(unittest.TestCase):
         self.assertIsInstance(error, errors.FloatError)
         matching = [other for other in REFUSALS if isinstance(error, getattr(errors, other))]
         self.assertEqual(matching, [name])
+
+    def assert_answer(self, answer, expected, *args):
+        """An answer is a tuple of a word and marks."""
+        self.assertEqual((type(answer), [type(part) for part in answer]), (tuple, [int, int]))
+        if answer != expected:
+            self.fail(f"{[shown(arg) for arg in args]}: answered {answer}, expected {expected}")
 
     def assert_whole(self, value):
         self.assertIs(type(value), int)

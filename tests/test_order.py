@@ -8,22 +8,14 @@ import unittest
 from floatforge.order import after, ahead, compared, in_order, rank_of, word_at
 from floatforge.widths import width_of
 from tests.helpers import (
-    NARROW, NOT_WHOLE, NOT_WIDTHS, WIDTHS, PromiseTest, is_loud, is_none, numbers_of, not_words, value_by_promise,
-    words_to_try,
+    NARROW, NOT_WHOLE, NOT_WIDTHS, WIDTHS, PromiseTest, endless_in, is_loud, is_none, not_words, numbers_of, sign_of,
+    value_by_promise, words_to_try,
 )
 
 HALF = width_of(5, 10)
 DOUBLE = width_of(11, 52)
 LEAST = width_of(2, 1)
 MOST = width_of(11, 60)
-
-
-def sign_of(width):
-    return 2 ** (width[0] + width[1])
-
-
-def endless_in(width):
-    return (2 ** width[0] - 1) * 2 ** width[1]
 
 
 def sorting_value(width, word):
