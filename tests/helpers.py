@@ -29,6 +29,16 @@ NOT_WAYS = (
     "even away", "near", "clean", [], ["even"], (), ("even",), ("up", "down"), {}, {"even": 1}, {"in"}, b"even", 1.0,
     object(),
 )
+NOT_TEXTS = (None, True, False, 0, 1, -1, 15, 10 ** 1999, [], ["1"], ["1", "5"], (), ("1",), {}, {"1": 1}, {"1"}, b"1", 1.5,
+             object())
+# Texts that write no number and are no name of a word either.
+NOT_NUMBER_TEXTS = (
+    "", " ", "-", ".", "e", "e5", "-e5", ".5", "5.", "-.5", "-5.", ".e1", "1.e1", "1.2.3", "1..2", "1.2.", "..1", "+1", "1e+5",
+    "+", "--1", "-+1", "1-", "1 ", " 1", "1 2", "- 1", "1\n", "\n1", "\n", "1e", "1e-", "1.5e", "1e--5", "1e5e5", "1e5.0", "1e.5",
+    "1ee5", "1E5", "1.5E-3", "1e 5", "1e5 ", "0x10", "1_000", "1,5", "1/2", "inf", "nan", "Infinity", "one", "1f", "1e5-", "e-5",
+    "None", "NONE", "Endless", "-none", "+endless", "endless ", " none", "none\n", "--endless", "endlesss", "1none", "\u0663",
+    "\uff11", "\u00bd", "1\u0660", "1e\u0663", "\u22121",
+)
 
 
 def not_words(width):
