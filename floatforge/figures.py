@@ -1,4 +1,4 @@
-"""Figures: the parts of a text that writes a number."""
+"""Figures: the parts of a text that writes a number, and powers of ten."""
 
 from floatforge.errors import NoText
 
@@ -32,3 +32,15 @@ def power_written(text):
     if len(figures) > MOST_POWER_FIGURES:
         raise NoText(f"a power is written with at most {MOST_POWER_FIGURES} figures")
     return -int(figures) if below else int(figures)
+
+
+def ten_power(count):
+    # By squares, as a factor of ten at a time is slow for great powers.
+    power = 1
+    square = 10
+    while count > 0:
+        if count % 2 == 1:
+            power = power * square
+        square = square * square
+        count = count // 2
+    return power
