@@ -92,7 +92,7 @@ class Desk:
 
     def words_kept(self, names):
         for name in names:
-            check_name(name)
+            # What is no name is never kept, so it needs no look of its own.
             if name not in self.kept:
                 raise NoName("nothing is kept by this name")
         return [self.kept[name] for name in names]

@@ -17,6 +17,5 @@ def holds_width(width, other):
 
 
 def moved(width, other, word, way="even"):
-    check_width(width)
     check_width(other)
     return gathered(other, [term_of(width, word)], way)

@@ -216,6 +216,8 @@ class Moved(PromiseTest):
         for wrong in NOT_WIDTHS:
             self.assert_refused("NoWidth", moved, wrong, HALF, 0)
             self.assert_refused("NoWidth", moved, HALF, wrong, 0)
+            self.assert_refused("NoWidth", moved, HALF, wrong, -1)
+            self.assert_refused("NoWidth", moved, wrong, wrong, -1, "no way")
 
 
 class DoneInAGreaterWidth(PromiseTest):

@@ -329,7 +329,8 @@ class Reckoned(SpanTest):
         for wrong in not_words(HALF):
             for function in PAIRS:
                 for one, other in (((wrong, 0), (0, 0)), ((0, wrong), (0, 0)), ((0, 0), (wrong, 0)), ((0, 0), (0, wrong)),
-                                   ((0x4000, 0x3C00), (0, wrong)), ((0x7E00, wrong), (0, 0))):
+                                   ((0x4000, 0x3C00), (0, wrong)), ((0x4000, 0x3C00), (wrong, 0)), ((0x7E00, wrong), (0, 0)),
+                                   ((wrong, 0x3C00), (0x4000, 0x3C00))):
                     self.assert_refused("NoWord", function, HALF, one, other)
             self.assert_refused("NoWord", span_root, HALF, (wrong, 0))
             self.assert_refused("NoWord", span_root, HALF, (0xBC00, wrong))
